@@ -1,0 +1,1 @@
+"""Sidebook: pots of coin held by two beside a slow book."""
