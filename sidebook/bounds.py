@@ -1,10 +1,11 @@
-"""The bounds that the other modules share: sides, words, days, amounts, pots."""
+"""The bounds that the other modules share: sides, hands, words, days, amounts, pots."""
 
 MOST_WORD = 59
 MOST_DAY = 1_000_000
 MOST_NUMBER = 1_000_000
 MOST_AMOUNT = 1_000_000_000_000
 MOST_POT = 2
+MOST_HAND = 3
 
 
 def is_whole(thing):
@@ -18,6 +19,10 @@ def is_between(thing, least, most):
 
 def is_side(thing):
     return is_between(thing, 0, 1)
+
+
+def is_hand(thing):
+    return is_between(thing, 0, MOST_HAND)
 
 
 def is_word(thing):

@@ -1,12 +1,12 @@
 """Claims: what stands in the book about one pot, told by the claim itself."""
 
 from sidebook.bounds import other_side
-from sidebook.stands import with_more
+from sidebook.stands import shown_in_time, with_more
 from sidebook.things import is_thing
 
 
 def side_due(tie, day, shown):
-    if tie[2] in shown and shown[tie[2]] < tie[3]:
+    if shown_in_time(tie, shown):
         return other_side(tie[0])
     if day >= tie[3]:
         return tie[0]

@@ -64,6 +64,10 @@ def deals(one):
     return sum(one[1]) + sum([tie[1] for tie in one[2]])
 
 
+def is_stand_of(thing, coin):
+    return is_stand(thing) and deals(thing) == coin
+
+
 def with_more(shares, side, amount):
     if side == 0:
         return (shares[0] + amount, shares[1])
@@ -95,6 +99,10 @@ def tie_of(one, word):
         if tie[2] == word:
             return tie
     return None
+
+
+def shown_in_time(tie, shown):
+    return tie[2] in shown and shown[tie[2]] < tie[3]
 
 
 def tie_to_end(one, word):
