@@ -1,8 +1,11 @@
 """Accounts: what one side of a pot keeps of it. An account never changes; each deed tells another one."""
 
+from sidebook.bounds import other_side
 from sidebook.errors import NoDeed, NoStand
 from sidebook.letters import is_letter
 from sidebook.stands import deals, first, is_stand_of
+
+STATES = ("calm", "offered", "waiting")
 
 
 def is_following(thing, one):
@@ -79,3 +82,14 @@ def offered(account, shares, ties):
         raise NoStand("what is offered is no stand of the pot")
     behind = Offered(account.pot, account.side, account.mine, account.grant, [account.mine, one], account.strikes)
     return (behind, ("offer", account.pot, account.agree_of(0, one)))
+
+
+def account_in(pot, side, state, mine, other):
+    """The account in a state, by its stands alone; other is the other stand that may come down."""
+    # The numbers go up by one and the first stand needs no grant, so both strikes and grant follow from the stands.
+    grant = None if mine[0] == 0 else ("agree", pot, other_side(side), mine)
+    if state == "offered":
+        return Offered(pot, side, mine, grant, [mine, other], list(range(mine[0])))
+    if state == "waiting":
+        return Waiting(pot, side, mine, grant, [other, mine], list(range(other[0])))
+    return Calm(pot, side, mine, grant, [mine], list(range(mine[0])))
